@@ -6,6 +6,7 @@ import (
 	"testing"
 
 	"carfax/api"
+	"carfax/sample"
 )
 
 // The tests hold the package against slow answers, worked out on the lists as they are, by trying one order behind the other.
@@ -123,15 +124,6 @@ func outside() []int {
 	return []int{-1, -2, -6, -26, -32, -64, 26, 27, 31, 32, 33, 63, 64, 65, 256, 1 << 16, 1 << 32, 1<<32 + 1, 1 << 62, math.MinInt32, math.MinInt, math.MinInt + 1, math.MaxInt32, math.MaxInt - 1, math.MaxInt}
 }
 
-// chance is numbers that look mixed, others for another seed.
-func chance(seed int) func(below int) int {
-	n := uint32(seed)*2654435761 + 12345
-	return func(below int) int {
-		n = n*1664525 + 1013904223
-		return int(n>>16) % below
-	}
-}
-
 // mixed is right claims: of the zones up to a number some are held, and each one needs up to so many of them, some more than once.
 func mixed(many, zones, needs int, draw func(below int) int) []api.Claim {
 	l := make([]api.Claim, many)
@@ -155,7 +147,7 @@ func mixed(many, zones, needs int, draw func(below int) int) []api.Claim {
 func mixes(many int) [][]api.Claim {
 	var all [][]api.Claim
 	for seed := range many {
-		draw := chance(seed)
+		draw := sample.Numbers(seed)
 		all = append(all, mixed(1+draw(8), 1+draw(26), draw(5), draw))
 	}
 	return all

@@ -8,6 +8,7 @@ import (
 	"testing"
 
 	"carfax/api"
+	"carfax/sample"
 )
 
 // The tests hold the package against slow answers, worked out on rows, by places x and y, as the chapter tells them.
@@ -204,11 +205,7 @@ func texts(kind string, many int, use func(s string)) {
 
 // mixed is floors of all sides, other ones for another seed: most of lanes, with walls and docks among them.
 func mixed(seed int) api.Floor {
-	n := uint32(seed)*2654435761 + 12345
-	draw := func(below int) int {
-		n = n*1664525 + 1013904223
-		return int(n>>16) % below
-	}
+	draw := sample.Numbers(seed)
 	f := api.Floor{W: 1 + draw(api.MaxSide), H: 1 + draw(api.MaxSide)}
 	cells := make([]byte, f.W*f.H)
 	for i := range cells {

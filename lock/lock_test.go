@@ -6,6 +6,7 @@ import (
 	"testing"
 
 	"carfax/api"
+	"carfax/sample"
 )
 
 // slow is all that is held, in no order, gone through for each question.
@@ -83,15 +84,6 @@ func list(numbers ...int) []int { return numbers }
 // outside is numbers that are neither robots nor zones; some of them are one, if their lowest bits alone are looked at.
 func outside() []int {
 	return list(-1, -2, -7, -8, -25, -26, -32, -256, 26, 27, 32, 33, 64, 128, 255, 256, 1<<16, 1<<32, 1<<32+1, 1<<62, math.MinInt32, math.MinInt, math.MinInt+1, math.MaxInt32, math.MaxInt-1, math.MaxInt)
-}
-
-// chance is numbers that look mixed, others for another seed.
-func chance(seed int) func(below int) int {
-	n := uint32(seed)*2654435761 + 12345
-	return func(below int) int {
-		n = n*1664525 + 1013904223
-		return int(n>>16) % below
-	}
 }
 
 func wantHold(t *testing.T, x *Table, robot, zone int, want api.Errno) {
@@ -428,7 +420,7 @@ func TestAllOrdersOfCalls(t *testing.T) {
 func TestManyMixedCalls(t *testing.T) {
 	var refused, done int
 	for seed := range 60 {
-		draw := chance(seed)
+		draw := sample.Numbers(seed)
 		x, s := New(), &slow{}
 		// The calls of some seeds are of few zones, so that many are refused.
 		below := 1 + seed%26
@@ -514,7 +506,7 @@ func TestWhatOnlyAsksChangesNothing(t *testing.T) {
 
 func TestTheSameCallsAnswerTheSame(t *testing.T) {
 	once := func() []int {
-		draw := chance(7)
+		draw := sample.Numbers(7)
 		x := New()
 		var all []int
 		for range 2000 {

@@ -1,13 +1,12 @@
 package path
 
 import (
-	"math"
 	"slices"
-	"strings"
 	"testing"
 
 	"carfax/api"
 	"carfax/floor"
+	"carfax/sample"
 )
 
 // The tests hold the package against slow answers, worked out on rows, by places x and y, as the chapter tells them.
@@ -152,71 +151,6 @@ func parsed(t *testing.T, s string) api.Floor {
 	return f
 }
 
-// inside is the cells of a floor that are no walls.
-func inside(f api.Floor) []int {
-	var cells []int
-	for cell := range len(f.Cells) {
-		if f.Cells[cell] != '#' {
-			cells = append(cells, cell)
-		}
-	}
-	return cells
-}
-
-// outside is numbers that are no cell of any floor; some of them are one, if their lowest bits alone are looked at.
-func outside() []int {
-	return []int{-1, -2, -256, 256, 257, 1 << 16, 1 << 32, 1<<32 + 1, math.MinInt, math.MinInt + 1, math.MaxInt, math.MaxInt - 1}
-}
-
-// wrong is floors that are not right.
-func wrong() []api.Floor {
-	return []api.Floor{
-		{},
-		{W: 2, H: 1, Cells: "00"},
-		{W: 2, H: 1, Cells: "aa"},
-		{W: 3, H: 1, Cells: "a0a"},
-		{W: 3, H: 1, Cells: "0a2"},
-		{W: 2, H: 2, Cells: "0aA#"},
-		{W: 2, H: 2, Cells: "0aa"},
-		{W: 2, H: 2, Cells: "0aaaa"},
-		{W: 0, H: 0, Cells: "0a"},
-		{W: -2, H: -1, Cells: "0a"},
-		{W: 17, H: 1, Cells: "0" + strings.Repeat("a", 16)},
-		{W: 1, H: 17, Cells: "0" + strings.Repeat("a", 16)},
-		{W: math.MaxInt, H: math.MinInt, Cells: "0a"},
-	}
-}
-
-// chance is numbers that look mixed, others for another seed.
-func chance(seed int) func(below int) int {
-	n := uint32(seed)*2654435761 + 12345
-	return func(below int) int {
-		n = n*1664525 + 1013904223
-		return int(n>>16) % below
-	}
-}
-
-// mixed is a right floor of sides up to side: lanes, with walls and docks among them.
-func mixed(side int, draw func(below int) int) api.Floor {
-	for {
-		f := api.Floor{W: 1 + draw(side), H: 1 + draw(side)}
-		cells := make([]byte, f.W*f.H)
-		for i := range cells {
-			cells[i] = 'a' + byte(draw(api.MaxZones))
-			if draw(4) == 0 {
-				cells[i] = '#'
-			}
-		}
-		for robot := range 1 + draw(api.MaxRobots) {
-			cells[draw(len(cells))] = '0' + byte(robot)
-		}
-		f.Cells = string(cells)
-		if floor.Right(f) {
-			return f
-		}
-	}
-}
-
 // someOf is up to so many cells of a floor, walls and docks too, some of them twice, and numbers that are none.
 func someOf(f api.Floor, many int, draw func(below int) int) []int {
 	var cells []int
@@ -224,33 +158,12 @@ func someOf(f api.Floor, many int, draw func(below int) int) []int {
 		cells = append(cells, draw(len(f.Cells)))
 	}
 	if draw(3) == 0 {
-		cells = append(cells, outside()...)
+		cells = append(cells, sample.Outside()...)
 	}
 	if len(cells) > 0 && draw(3) == 0 {
 		cells = append(cells, cells[0])
 	}
 	return cells
-}
-
-// full is the greatest floor without a wall, but for some beside the docks.
-func full() string {
-	return "01234567########\n" + strings.Repeat(strings.Repeat("w", api.MaxSide)+"\n", api.MaxSide-1)
-}
-
-// snake is one way of lanes, that turns at each side of the floor, from the dock 0, the first cell, on.
-func snake() string {
-	rows := []string{"0" + strings.Repeat("s", api.MaxSide-1)}
-	for y := 1; y < api.MaxSide; y++ {
-		switch y % 4 {
-		case 0, 2:
-			rows = append(rows, strings.Repeat("s", api.MaxSide))
-		case 1:
-			rows = append(rows, strings.Repeat("#", api.MaxSide-1)+"s")
-		case 3:
-			rows = append(rows, "s"+strings.Repeat("#", api.MaxSide-1))
-		}
-	}
-	return strings.Join(rows, "\n")
 }
 
 func wantDist(t *testing.T, f api.Floor, from int, blocked, want []int) {
@@ -290,13 +203,13 @@ func TestDistOfTheExample(t *testing.T) {
 }
 
 func TestDistOfNothing(t *testing.T) {
-	for _, f := range wrong() {
-		for _, from := range append(outside(), 0, 1, 2) {
+	for _, f := range sample.Wrong() {
+		for _, from := range append(sample.Outside(), 0, 1, 2) {
 			wantDist(t, f, from, nil, nil)
 		}
 	}
 	f := parsed(t, whole)
-	for _, from := range append(outside(), 5, 7, 9, 15) {
+	for _, from := range append(sample.Outside(), 5, 7, 9, 15) {
 		wantDist(t, f, from, nil, nil)
 		wantDist(t, f, from, []int{from}, nil)
 	}
@@ -316,7 +229,7 @@ func TestDistDoesNotGoThroughDocks(t *testing.T) {
 
 func TestDistOfABlockedBeginning(t *testing.T) {
 	f := parsed(t, whole)
-	for _, from := range inside(f) {
+	for _, from := range sample.Inside(f) {
 		wantDist(t, f, from, []int{from}, Dist(f, from, nil))
 	}
 }
@@ -325,13 +238,13 @@ func TestDistWithAllBlocked(t *testing.T) {
 	f := parsed(t, whole)
 	want := slices.Repeat([]int{-1}, len(f.Cells))
 	want[3] = 0
-	wantDist(t, f, 3, inside(f), want)
+	wantDist(t, f, 3, sample.Inside(f), want)
 }
 
 func TestDistWithBlockedThatAreNoCells(t *testing.T) {
 	f := parsed(t, whole)
-	blocked := append(outside(), 5, 7, 9, 15, 16)
-	for _, from := range inside(f) {
+	blocked := append(sample.Outside(), 5, 7, 9, 15, 16)
+	for _, from := range sample.Inside(f) {
 		wantDist(t, f, from, blocked, Dist(f, from, nil))
 		wantDist(t, f, from, []int{}, Dist(f, from, nil))
 		wantDist(t, f, from, append(blocked, 2, 2, 2), Dist(f, from, []int{2}))
@@ -339,7 +252,7 @@ func TestDistWithBlockedThatAreNoCells(t *testing.T) {
 }
 
 func TestDistOnTheGreatestFloors(t *testing.T) {
-	f := parsed(t, snake())
+	f := parsed(t, sample.Snake())
 	want := 0
 	d := Dist(f, 0, nil)
 	for y := range api.MaxSide {
@@ -357,7 +270,7 @@ func TestDistOnTheGreatestFloors(t *testing.T) {
 			want++
 		}
 	}
-	g := parsed(t, full())
+	g := parsed(t, sample.Full())
 	d = Dist(g, 255, nil)
 	for cell, far := range d {
 		apart := 15 - cell%16 + 15 - cell/16
@@ -372,17 +285,17 @@ func TestDistOnTheGreatestFloors(t *testing.T) {
 
 func TestDistOnMixedFloors(t *testing.T) {
 	for seed := range 300 {
-		draw := chance(seed)
-		f := mixed(6, draw)
-		for _, from := range inside(f) {
+		draw := sample.Numbers(seed)
+		f := sample.Floor(6, draw, floor.Right)
+		for _, from := range sample.Inside(f) {
 			blocked := someOf(f, 4, draw)
 			wantDist(t, f, from, blocked, slowOf(f, blocked).dist(from))
 		}
 	}
 	for seed := range 30 {
-		draw := chance(seed)
-		f := mixed(api.MaxSide, draw)
-		from, blocked := inside(f)[0], someOf(f, 20, draw)
+		draw := sample.Numbers(seed)
+		f := sample.Floor(api.MaxSide, draw, floor.Right)
+		from, blocked := sample.Inside(f)[0], someOf(f, 20, draw)
 		wantDist(t, f, from, blocked, slowOf(f, blocked).dist(from))
 	}
 }
@@ -397,16 +310,16 @@ func TestFindOfTheExample(t *testing.T) {
 }
 
 func TestFindOfWrongArguments(t *testing.T) {
-	for _, f := range wrong() {
-		for _, cell := range append(outside(), 0, 1, 2) {
+	for _, f := range sample.Wrong() {
+		for _, cell := range append(sample.Outside(), 0, 1, 2) {
 			wantError(t, f, cell, cell, nil, api.ErrArg)
 			wantError(t, f, 0, cell, nil, api.ErrArg)
 			wantError(t, f, cell, 1, nil, api.ErrArg)
 		}
 	}
 	f := parsed(t, whole)
-	all := inside(f)
-	for _, cell := range append(outside(), 5, 7, 9, 15) {
+	all := sample.Inside(f)
+	for _, cell := range append(sample.Outside(), 5, 7, 9, 15) {
 		for _, blocked := range [][]int{nil, {cell}, all} {
 			wantError(t, f, cell, 0, blocked, api.ErrArg)
 			wantError(t, f, 0, cell, blocked, api.ErrArg)
@@ -417,10 +330,10 @@ func TestFindOfWrongArguments(t *testing.T) {
 
 func TestFindOfTheSameCell(t *testing.T) {
 	f := parsed(t, whole)
-	for _, cell := range inside(f) {
+	for _, cell := range sample.Inside(f) {
 		wantWay(t, f, cell, cell, nil, nil)
 		wantWay(t, f, cell, cell, []int{cell}, nil)
-		wantWay(t, f, cell, cell, inside(f), nil)
+		wantWay(t, f, cell, cell, sample.Inside(f), nil)
 	}
 }
 
@@ -475,12 +388,12 @@ func TestFindTakesTheFirstOfSeveral(t *testing.T) {
 // TestFindOnSmallFloors tries all ways.
 func TestFindOnSmallFloors(t *testing.T) {
 	for seed := range 600 {
-		draw := chance(seed)
-		f := mixed(3, draw)
+		draw := sample.Numbers(seed)
+		f := sample.Floor(3, draw, floor.Right)
 		blocked := someOf(f, 2, draw)
 		s := slowOf(f, blocked)
-		for _, from := range inside(f) {
-			for _, to := range inside(f) {
+		for _, from := range sample.Inside(f) {
+			for _, to := range sample.Inside(f) {
 				want, e := s.find(from, to)
 				if e != api.OK {
 					wantError(t, f, from, to, blocked, e)
@@ -495,9 +408,9 @@ func TestFindOnSmallFloors(t *testing.T) {
 func TestFindOnMixedFloors(t *testing.T) {
 	found, none := 0, 0
 	for seed := range 400 {
-		draw := chance(seed)
-		f := mixed(api.MaxSide, draw)
-		cells, blocked := inside(f), someOf(f, len(f.Cells)/10, draw)
+		draw := sample.Numbers(seed)
+		f := sample.Floor(api.MaxSide, draw, floor.Right)
+		cells, blocked := sample.Inside(f), someOf(f, len(f.Cells)/10, draw)
 		from, to := cells[draw(len(cells))], cells[draw(len(cells))]
 		want, e := slowOf(f, blocked).farFind(from, to)
 		if e != api.OK {
@@ -514,15 +427,15 @@ func TestFindOnMixedFloors(t *testing.T) {
 }
 
 func TestFindOnTheGreatestFloors(t *testing.T) {
-	f := parsed(t, snake())
+	f := parsed(t, sample.Snake())
 	way, e := Find(f, 0, 240, nil)
-	if e != api.OK || len(way) != len(inside(f))-1 || !slowOf(f, nil).is(0, way) {
+	if e != api.OK || len(way) != len(sample.Inside(f))-1 || !slowOf(f, nil).is(0, way) {
 		t.Errorf("snake: %v, error %d", way, e)
 	}
 	for _, cell := range way {
 		wantError(t, f, 0, 240, []int{cell}, api.ErrNone)
 	}
-	g := parsed(t, full())
+	g := parsed(t, sample.Full())
 	var want []int
 	for cell := 17; cell < 32; cell++ {
 		want = append(want, cell)
@@ -544,16 +457,16 @@ func TestIsOfTheExample(t *testing.T) {
 
 func TestIsOfNoCells(t *testing.T) {
 	f := parsed(t, whole)
-	for _, from := range inside(f) {
+	for _, from := range sample.Inside(f) {
 		wantIs(t, f, from, nil, nil, true)
-		wantIs(t, f, from, []int{}, inside(f), true)
+		wantIs(t, f, from, []int{}, sample.Inside(f), true)
 	}
-	for _, from := range append(outside(), 5, 7, 9, 15) {
+	for _, from := range append(sample.Outside(), 5, 7, 9, 15) {
 		wantIs(t, f, from, nil, nil, false)
 		wantIs(t, f, from, []int{from}, nil, false)
 	}
-	for _, f := range wrong() {
-		for _, from := range append(outside(), 0, 1) {
+	for _, f := range sample.Wrong() {
+		for _, from := range append(sample.Outside(), 0, 1) {
 			wantIs(t, f, from, nil, nil, false)
 			wantIs(t, f, from, []int{1}, nil, false)
 		}
@@ -583,7 +496,7 @@ func TestIsAsksForEachStep(t *testing.T) {
 		wantIs(t, f, 1, way[:len(way)-1], nil, true)
 		wantIs(t, f, 1, way, nil, false)
 	}
-	for _, cell := range outside() {
+	for _, cell := range sample.Outside() {
 		wantIs(t, f, 1, []int{cell}, nil, false)
 		wantIs(t, f, 1, []int{2, cell}, nil, false)
 		wantIs(t, f, 1, []int{2, cell, 2}, nil, false)
@@ -600,7 +513,7 @@ func TestIsOfBlockedCells(t *testing.T) {
 	wantIs(t, f, 1, []int{2, 1}, []int{1}, false)
 	wantIs(t, f, 1, []int{2, 3}, []int{3}, false)
 	wantIs(t, f, 1, []int{2, 3, 8}, []int{3}, false)
-	wantIs(t, f, 1, []int{2, 3}, append(outside(), 7, 15), true)
+	wantIs(t, f, 1, []int{2, 3}, append(sample.Outside(), 7, 15), true)
 }
 
 func TestIsLeavesADockOnlyWhereTheWayBegins(t *testing.T) {
@@ -621,8 +534,8 @@ func TestIsLeavesADockOnlyWhereTheWayBegins(t *testing.T) {
 func TestIsOnMixedFloors(t *testing.T) {
 	ways := 0
 	for seed := range 4000 {
-		draw := chance(seed)
-		f := mixed(4, draw)
+		draw := sample.Numbers(seed)
+		f := sample.Floor(4, draw, floor.Right)
 		blocked := someOf(f, 2, draw)
 		s := slowOf(f, blocked)
 		from := draw(len(f.Cells))
@@ -652,12 +565,12 @@ func TestIsOnMixedFloors(t *testing.T) {
 
 func TestWhatWasFoundIsAWayAsLongAsDistSays(t *testing.T) {
 	for seed := range 150 {
-		draw := chance(seed)
-		f := mixed(7, draw)
+		draw := sample.Numbers(seed)
+		f := sample.Floor(7, draw, floor.Right)
 		blocked := someOf(f, 4, draw)
-		from := inside(f)[draw(len(inside(f)))]
+		from := sample.Inside(f)[draw(len(sample.Inside(f)))]
 		d := Dist(f, from, blocked)
-		for _, to := range inside(f) {
+		for _, to := range sample.Inside(f) {
 			way, e := Find(f, from, to, blocked)
 			if (e == api.OK) != (d[to] >= 0) || e == api.OK && len(way) != d[to] {
 				t.Errorf("%q: from %d to %d: %v, error %d, but Dist says %d", f.Cells, from, to, way, e, d[to])
@@ -679,9 +592,9 @@ func TestWhatWasFoundIsAWayAsLongAsDistSays(t *testing.T) {
 
 func TestWithMoreBlockedNoWayIsShorter(t *testing.T) {
 	for seed := range 200 {
-		draw := chance(seed)
-		f := mixed(6, draw)
-		from := inside(f)[draw(len(inside(f)))]
+		draw := sample.Numbers(seed)
+		f := sample.Floor(6, draw, floor.Right)
+		from := sample.Inside(f)[draw(len(sample.Inside(f)))]
 		var blocked []int
 		less := Dist(f, from, nil)
 		for range 5 {
@@ -699,9 +612,9 @@ func TestWithMoreBlockedNoWayIsShorter(t *testing.T) {
 
 func TestNeighboursDifferByOneStepAtMost(t *testing.T) {
 	for seed := range 200 {
-		draw := chance(seed)
-		f := mixed(8, draw)
-		from := inside(f)[draw(len(inside(f)))]
+		draw := sample.Numbers(seed)
+		f := sample.Floor(8, draw, floor.Right)
+		from := sample.Inside(f)[draw(len(sample.Inside(f)))]
 		blocked := someOf(f, 4, draw)
 		d := Dist(f, from, blocked)
 		left := func(cell int) bool {

@@ -3,12 +3,12 @@ package sipp
 import (
 	"math"
 	"slices"
-	"strings"
 	"testing"
 
 	"carfax/api"
 	"carfax/floor"
 	"carfax/path"
+	"carfax/sample"
 	"carfax/window"
 )
 
@@ -232,73 +232,10 @@ func table(t *testing.T, taken []spot) *window.Table {
 	return x
 }
 
-// inside is the cells of a floor that are no walls.
-func inside(f api.Floor) []int {
-	var cells []int
-	for cell := range len(f.Cells) {
-		if f.Cells[cell] != '#' {
-			cells = append(cells, cell)
-		}
-	}
-	return cells
-}
-
-// outside is numbers that are no cell of any floor; some of them are one, if their lowest bits alone are looked at.
-func outside() []int {
-	return []int{-1, -2, -256, 256, 257, 1 << 16, 1 << 32, 1<<32 + 1, math.MinInt, math.MinInt + 1, math.MaxInt, math.MaxInt - 1}
-}
-
-// wrong is floors that are not right.
-func wrong() []api.Floor {
-	return []api.Floor{
-		{},
-		{W: 2, H: 1, Cells: "00"},
-		{W: 2, H: 1, Cells: "aa"},
-		{W: 3, H: 1, Cells: "a0a"},
-		{W: 3, H: 1, Cells: "0a2"},
-		{W: 2, H: 2, Cells: "0aA#"},
-		{W: 2, H: 2, Cells: "0aa"},
-		{W: 2, H: 2, Cells: "0aaaa"},
-		{W: -2, H: -1, Cells: "0a"},
-		{W: 17, H: 1, Cells: "0" + strings.Repeat("a", 16)},
-		{W: math.MaxInt, H: math.MinInt, Cells: "0a"},
-	}
-}
-
-// chance is numbers that look mixed, others for another seed.
-func chance(seed int) func(below int) int {
-	n := uint32(seed)*2654435761 + 12345
-	return func(below int) int {
-		n = n*1664525 + 1013904223
-		return int(n>>16) % below
-	}
-}
-
-// mixed is a right floor of sides up to side: lanes, with walls and docks among them.
-func mixed(side int, draw func(below int) int) api.Floor {
-	for {
-		f := api.Floor{W: 1 + draw(side), H: 1 + draw(side)}
-		cells := make([]byte, f.W*f.H)
-		for i := range cells {
-			cells[i] = 'a' + byte(draw(api.MaxZones))
-			if draw(4) == 0 {
-				cells[i] = '#'
-			}
-		}
-		for robot := range 1 + draw(api.MaxRobots) {
-			cells[draw(len(cells))] = '0' + byte(robot)
-		}
-		f.Cells = string(cells)
-		if floor.Right(f) {
-			return f
-		}
-	}
-}
-
 // mixedSpots is up to so many windows of each cell of a floor, none of which has a moment of another one, from some moment on; and of what is no cell of it.
 func mixedSpots(f api.Floor, many, from int, draw func(below int) int) []spot {
 	var taken []spot
-	for _, cell := range append(outside(), inside(f)...) {
+	for _, cell := range append(sample.Outside(), sample.Inside(f)...) {
 		at := from
 		for range draw(many + 1) {
 			at += draw(4)
@@ -321,11 +258,6 @@ func mixedStart(draw func(below int) int) int {
 		return api.MaxTime - 1 - draw(12)
 	}
 	return draw(api.MaxTime)
-}
-
-// full is the greatest floor without a wall, but for some beside the docks.
-func full() string {
-	return "01234567########\n" + strings.Repeat(strings.Repeat("w", api.MaxSide)+"\n", api.MaxSide-1)
 }
 
 // steps is steps of numbers, two for each.
@@ -370,7 +302,7 @@ func wantLike(t *testing.T, f api.Floor, taken []spot, from, start, ahead int) {
 	t.Helper()
 	s := slowOf(f, taken, from, start)
 	wantSoon(t, f, taken, from, start, ahead, s.soon(ahead))
-	for _, to := range inside(f) {
+	for _, to := range sample.Inside(f) {
 		if want, e := s.plan(to, ahead); e != api.OK {
 			wantError(t, f, taken, from, start, to, ahead, e)
 		} else {
@@ -390,8 +322,8 @@ func TestSoonOfTheExample(t *testing.T) {
 
 func TestSoonOfNothing(t *testing.T) {
 	x := window.New()
-	for _, f := range wrong() {
-		for _, from := range append(outside(), 0, 1, 2) {
+	for _, f := range sample.Wrong() {
+		for _, from := range append(sample.Outside(), 0, 1, 2) {
 			if got := Soon(f, x, from, 0, 9); len(got) != 0 {
 				t.Errorf("%v: Soon from %d: %v", f, from, got)
 			}
@@ -401,7 +333,7 @@ func TestSoonOfNothing(t *testing.T) {
 	if got := Soon(f, nil, 0, 0, 9); len(got) != 0 {
 		t.Errorf("without a table: %v", got)
 	}
-	for _, from := range append(outside(), 5, 7, 9, 15) {
+	for _, from := range append(sample.Outside(), 5, 7, 9, 15) {
 		wantSoon(t, f, nil, from, 0, 9, nil)
 	}
 	for _, start := range []int{-1, -api.MaxTime, api.MaxTime, api.MaxTime + 1, 1 << 32, math.MinInt, math.MaxInt} {
@@ -476,17 +408,17 @@ func TestSoonOfWindowsOneBehindTheOther(t *testing.T) {
 
 func TestSoonOnMixedFloors(t *testing.T) {
 	for seed := range 60 {
-		draw := chance(seed)
-		f, start := mixed(api.MaxSide, draw), mixedStart(draw)
+		draw := sample.Numbers(seed)
+		f, start := sample.Floor(api.MaxSide, draw, floor.Right), mixedStart(draw)
 		taken := mixedSpots(f, 8, start-5, draw)
-		from, ahead := inside(f)[draw(len(inside(f)))], draw(60)
+		from, ahead := sample.Inside(f)[draw(len(sample.Inside(f)))], draw(60)
 		wantSoon(t, f, taken, from, start, ahead, slowOf(f, taken, from, start).soon(ahead))
 	}
 }
 
 // TestSoonOfVeryManyWindows takes each cell at each second moment, so that a robot can only go, or wait in none but the dock.
 func TestSoonOfVeryManyWindows(t *testing.T) {
-	f := parsed(t, full())
+	f := parsed(t, sample.Full())
 	x := window.New()
 	var want []int
 	for cell := range len(f.Cells) {
@@ -530,8 +462,8 @@ func TestPlanOfTheExample(t *testing.T) {
 
 func TestPlanOfWrongArguments(t *testing.T) {
 	x := window.New()
-	for _, f := range wrong() {
-		for _, cell := range append(outside(), 0, 1, 2) {
+	for _, f := range sample.Wrong() {
+		for _, cell := range append(sample.Outside(), 0, 1, 2) {
 			for _, from := range []int{0, 1, cell} {
 				if l, e := Plan(f, x, from, 0, cell, 9); e != api.ErrArg || len(l) != 0 {
 					t.Errorf("%v: Plan from %d to %d: %v, error %d", f, from, cell, l, e)
@@ -541,7 +473,7 @@ func TestPlanOfWrongArguments(t *testing.T) {
 	}
 	f := parsed(t, whole)
 	all := []spot{take(0, 0, api.MaxTime), take(1, 0, api.MaxTime)}
-	for _, cell := range append(outside(), 5, 7, 9, 15) {
+	for _, cell := range append(sample.Outside(), 5, 7, 9, 15) {
 		for _, taken := range [][]spot{nil, all} {
 			wantError(t, f, taken, cell, 0, 0, 9, api.ErrArg)
 			wantError(t, f, taken, 0, 0, cell, 9, api.ErrArg)
@@ -563,7 +495,7 @@ func TestPlanOfWrongArguments(t *testing.T) {
 
 func TestPlanToWhereItIs(t *testing.T) {
 	f := parsed(t, whole)
-	for _, cell := range inside(f) {
+	for _, cell := range sample.Inside(f) {
 		for _, start := range []int{0, 1, api.MaxTime - 1} {
 			wantPlan(t, f, nil, cell, start, cell, 0, nil)
 			wantPlan(t, f, []spot{take(cell, 0, api.MaxTime)}, cell, start, cell, api.MaxAhead, nil)
@@ -648,10 +580,10 @@ func TestPlanTakesTheFirstOfSeveralFromTheEnd(t *testing.T) {
 func TestPlanOfAllWays(t *testing.T) {
 	planned := 0
 	for seed := range 500 {
-		draw := chance(seed)
-		f, start := mixed(3, draw), mixedStart(draw)
+		draw := sample.Numbers(seed)
+		f, start := sample.Floor(3, draw, floor.Right), mixedStart(draw)
 		taken := mixedSpots(f, 3, start-2, draw)
-		from := inside(f)[draw(len(inside(f)))]
+		from := sample.Inside(f)[draw(len(sample.Inside(f)))]
 		s := slowOf(f, taken, from, start)
 		for to, moment := range s.soon(6) {
 			if to == from || moment < 0 {
@@ -668,10 +600,10 @@ func TestPlanOfAllWays(t *testing.T) {
 
 func TestPlanOnMixedFloors(t *testing.T) {
 	for seed := range 400 {
-		draw := chance(seed)
-		f, start := mixed(5, draw), mixedStart(draw)
+		draw := sample.Numbers(seed)
+		f, start := sample.Floor(5, draw, floor.Right), mixedStart(draw)
 		taken := mixedSpots(f, 1+draw(8), start-draw(8), draw)
-		from := inside(f)[draw(len(inside(f)))]
+		from := sample.Inside(f)[draw(len(sample.Inside(f)))]
 		wantLike(t, f, taken, from, start, draw(50))
 	}
 }
@@ -705,8 +637,8 @@ func TestIsOfTheExample(t *testing.T) {
 
 func TestIsOfWrongArguments(t *testing.T) {
 	x := window.New()
-	for _, f := range wrong() {
-		for _, from := range append(outside(), 0, 1, 2) {
+	for _, f := range sample.Wrong() {
+		for _, from := range append(sample.Outside(), 0, 1, 2) {
 			if Is(f, x, from, 0, nil) || Is(f, x, from, 0, steps(1, 1)) {
 				t.Errorf("%v: Is from %d", f, from)
 			}
@@ -716,7 +648,7 @@ func TestIsOfWrongArguments(t *testing.T) {
 	if Is(f, nil, 0, 0, nil) || Is(f, nil, 0, 0, steps(1, 1)) {
 		t.Errorf("without a table")
 	}
-	for _, from := range append(outside(), 5, 7, 9, 15) {
+	for _, from := range append(sample.Outside(), 5, 7, 9, 15) {
 		wantIs(t, f, nil, from, 0, nil, false)
 		wantIs(t, f, nil, from, 0, steps(1, 1), false)
 	}
@@ -728,7 +660,7 @@ func TestIsOfWrongArguments(t *testing.T) {
 
 func TestIsOfNoSteps(t *testing.T) {
 	f := parsed(t, whole)
-	for _, from := range inside(f) {
+	for _, from := range sample.Inside(f) {
 		for _, start := range []int{0, 1, api.MaxTime - 1} {
 			wantIs(t, f, nil, from, start, nil, true)
 			wantIs(t, f, []spot{take(from, 0, api.MaxTime)}, from, start, []api.Step{}, true)
@@ -760,7 +692,7 @@ func TestIsAsksForCellsNear(t *testing.T) {
 		wantIs(t, f, nil, 1, 0, l[:len(l)-1], true)
 		wantIs(t, f, nil, 1, 0, l, false)
 	}
-	for _, cell := range outside() {
+	for _, cell := range sample.Outside() {
 		wantIs(t, f, nil, 1, 0, steps(cell, 1), false)
 		wantIs(t, f, nil, 1, 0, steps(2, 1, cell, 2), false)
 		wantIs(t, f, nil, 1, 0, steps(2, 1, cell, 2, 2, 3), false)
@@ -851,10 +783,10 @@ func mixedSteps(s slow, draw func(below int) int) []api.Step {
 func TestIsOnMixedFloors(t *testing.T) {
 	are, not := 0, 0
 	for seed := range 6000 {
-		draw := chance(seed)
-		f, start := mixed(4, draw), mixedStart(draw)
+		draw := sample.Numbers(seed)
+		f, start := sample.Floor(4, draw, floor.Right), mixedStart(draw)
 		taken := mixedSpots(f, 3, start-draw(4), draw)
-		s := slowOf(f, taken, inside(f)[draw(len(inside(f)))], start)
+		s := slowOf(f, taken, sample.Inside(f)[draw(len(sample.Inside(f)))], start)
 		l := mixedSteps(s, draw)
 		wantIs(t, f, taken, s.from, start, l, s.is(l))
 		if s.is(l) && len(l) > 2 {
@@ -872,12 +804,12 @@ func TestIsOnMixedFloors(t *testing.T) {
 
 func TestWhatWasPlannedIsAWayAndComesWhenSoonSays(t *testing.T) {
 	for seed := range 150 {
-		draw := chance(seed)
-		f, start := mixed(9, draw), mixedStart(draw)
+		draw := sample.Numbers(seed)
+		f, start := sample.Floor(9, draw, floor.Right), mixedStart(draw)
 		x := table(t, mixedSpots(f, 6, start-3, draw))
-		from, ahead := inside(f)[draw(len(inside(f)))], draw(80)
+		from, ahead := sample.Inside(f)[draw(len(sample.Inside(f)))], draw(80)
 		soon, far := Soon(f, x, from, start, ahead), path.Dist(f, from, nil)
-		for _, to := range inside(f) {
+		for _, to := range sample.Inside(f) {
 			l, e := Plan(f, x, from, start, to, ahead)
 			switch {
 			case (e == api.OK) != (soon[to] >= 0):
@@ -898,9 +830,9 @@ func TestWhatWasPlannedIsAWayAndComesWhenSoonSays(t *testing.T) {
 
 func TestOnAFreeFloorAStepTakesAMoment(t *testing.T) {
 	for seed := range 100 {
-		draw := chance(seed)
-		f, start := mixed(10, draw), draw(api.MaxTime-200)
-		from := inside(f)[draw(len(inside(f)))]
+		draw := sample.Numbers(seed)
+		f, start := sample.Floor(10, draw, floor.Right), draw(api.MaxTime-200)
+		from := sample.Inside(f)[draw(len(sample.Inside(f)))]
 		for to, far := range path.Dist(f, from, nil) {
 			if far < 0 {
 				continue
@@ -920,9 +852,9 @@ func TestOnAFreeFloorAStepTakesAMoment(t *testing.T) {
 
 func TestWithMoreTakenNothingIsReachedSooner(t *testing.T) {
 	for seed := range 100 {
-		draw := chance(seed)
-		f := mixed(7, draw)
-		from := inside(f)[draw(len(inside(f)))]
+		draw := sample.Numbers(seed)
+		f := sample.Floor(7, draw, floor.Right)
+		from := sample.Inside(f)[draw(len(sample.Inside(f)))]
 		x := window.New()
 		less := Soon(f, x, from, 10, 60)
 		for _, s := range mixedSpots(f, 4, 8, draw) {
@@ -944,7 +876,7 @@ func TestTheTableIsLeftAsItIs(t *testing.T) {
 	f := parsed(t, whole)
 	taken := []spot{take(0, 0, 3), take(1, 5, 6), take(2, 4, 9), take(6, 2, 4), take(7, 0, 90), take(-1, 3, 4)}
 	x, y := table(t, taken), table(t, taken)
-	for _, from := range inside(f) {
+	for _, from := range sample.Inside(f) {
 		for _, start := range []int{0, 2, 3, 5} {
 			Soon(f, x, from, start, 50)
 			l, _ := Plan(f, x, from, start, 4, 50)

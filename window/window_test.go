@@ -6,6 +6,7 @@ import (
 	"testing"
 
 	"carfax/api"
+	"carfax/sample"
 )
 
 // slow is the windows for which cells are taken, in no order, all gone through for each question.
@@ -86,15 +87,6 @@ func (s *slow) drop(cell int, w api.Window) api.Errno {
 
 func (s *slow) forget(moment int) {
 	s.taken = slices.DeleteFunc(s.taken, func(x spot) bool { return x.w.To <= moment })
-}
-
-// chance is numbers that look mixed, others for another seed.
-func chance(seed int) func(below int) int {
-	n := uint32(seed)*2654435761 + 12345
-	return func(below int) int {
-		n = n*1664525 + 1013904223
-		return int(n>>16) % below
-	}
 }
 
 func win(from, to int) api.Window { return api.Window{From: from, To: to} }
@@ -306,7 +298,7 @@ func TestACellHasNoMoreThanMaxWindows(t *testing.T) {
 	back := slices.Clone(l)
 	slices.Reverse(back)
 	mixed := slices.Clone(l)
-	for i, draw := len(mixed)-1, chance(1); i > 0; i-- {
+	for i, draw := len(mixed)-1, sample.Numbers(1); i > 0; i-- {
 		k := draw(i + 1)
 		mixed[i], mixed[k] = mixed[k], mixed[i]
 	}
@@ -518,7 +510,7 @@ func TestAllOrdersOfCalls(t *testing.T) {
 
 func TestManyMixedCalls(t *testing.T) {
 	for seed := range 60 {
-		draw := chance(seed)
+		draw := sample.Numbers(seed)
 		x, s := New(), &slow{}
 		where := []int{0, 1, -1}[:1+seed%3]
 		// The windows of some seeds lie at the beginning of time, those of others at its end.
@@ -548,7 +540,7 @@ func TestManyMixedCalls(t *testing.T) {
 
 func TestEachMomentIsFreeOrTaken(t *testing.T) {
 	for seed := range 4 {
-		draw := chance(seed)
+		draw := sample.Numbers(seed)
 		x := New()
 		for range 300 * seed {
 			from := draw(1<<14)*64 + draw(64)
@@ -578,7 +570,7 @@ func TestEachMomentIsFreeOrTaken(t *testing.T) {
 
 func TestFreeWindowsAreRightAndDoNotTouch(t *testing.T) {
 	for seed := range 50 {
-		draw := chance(seed)
+		draw := sample.Numbers(seed)
 		x := New()
 		for range 100 {
 			from := draw(300)
@@ -598,7 +590,7 @@ func TestFreeWindowsAreRightAndDoNotTouch(t *testing.T) {
 
 func TestWhatWasTakenAndDroppedLeavesAllAsItWas(t *testing.T) {
 	for seed := range 40 {
-		draw := chance(seed)
+		draw := sample.Numbers(seed)
 		anyWindow := func() api.Window {
 			from := draw(200)
 			return win(from, from+1+draw(8))
@@ -693,7 +685,7 @@ func TestWhatOnlyAsksChangesNothing(t *testing.T) {
 
 func TestTheSameCallsAnswerTheSame(t *testing.T) {
 	once := func() []api.Window {
-		draw := chance(7)
+		draw := sample.Numbers(7)
 		x := New()
 		var told []api.Window
 		for i := range 2000 {

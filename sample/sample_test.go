@@ -1,0 +1,52 @@
+package sample
+
+import (
+	"slices"
+	"testing"
+
+	"carfax/api"
+	"carfax/floor"
+)
+
+func TestFloorsAreRight(t *testing.T) {
+	draw := Numbers(1)
+	for side := 2; side <= api.MaxSide; side++ {
+		if f := Floor(side, draw, floor.Right); !floor.Right(f) || f.W > side || f.H > side {
+			t.Errorf("%v", f)
+		}
+	}
+	for _, s := range []string{Full(), Snake()} {
+		if f, row, e := floor.Parse(s); e != api.OK || f.W != api.MaxSide || f.H != api.MaxSide {
+			t.Errorf("%q: row %d, error %d", s, row, e)
+		}
+	}
+}
+
+func TestWrongFloorsAreNot(t *testing.T) {
+	for _, f := range Wrong() {
+		if floor.Right(f) {
+			t.Errorf("%v is right", f)
+		}
+	}
+}
+
+func TestCellsInsideAndOutside(t *testing.T) {
+	f := api.Floor{W: 3, H: 2, Cells: "0a##b#"}
+	if got := Inside(f); !slices.Equal(got, []int{0, 1, 4}) {
+		t.Errorf("inside is %v", got)
+	}
+	for _, cell := range Outside() {
+		if cell >= 0 && cell < api.MaxSide*api.MaxSide {
+			t.Errorf("%d may be a cell", cell)
+		}
+	}
+}
+
+func TestNumbersAreTheSameForTheSameSeed(t *testing.T) {
+	draw, again := Numbers(7), Numbers(7)
+	for below := 1; below < 1000; below++ {
+		if n := draw(below); n < 0 || n >= below || n != again(below) {
+			t.Errorf("%d below %d", n, below)
+		}
+	}
+}
