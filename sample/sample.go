@@ -1,4 +1,4 @@
-// Package sample is what the tests of several packages try: numbers, cells and floors. Nothing but tests calls it.
+// Package sample is what the tests of several packages try: numbers, cells, floors and acts. Nothing but tests calls it.
 package sample
 
 import (
@@ -94,3 +94,12 @@ func Snake() string {
 	}
 	return strings.Join(rows, "\n")
 }
+
+// Go is an act that goes to a cell.
+func Go(cell int) api.Act { return api.Act{Kind: api.ActGo, Cell: cell} }
+
+// Lift is an act that lifts a pod at a cell.
+func Lift(pod, cell int) api.Act { return api.Act{Kind: api.ActLift, Cell: cell, Pod: pod} }
+
+// Drop is an act that drops a pod at a cell.
+func Drop(pod, cell int) api.Act { return api.Act{Kind: api.ActDrop, Cell: cell, Pod: pod} }

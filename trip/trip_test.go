@@ -21,11 +21,7 @@ const (
 	between = "a0b\nc1d\nefg\n"
 )
 
-func goTo(cell int) api.Act { return api.Act{Kind: api.ActGo, Cell: cell} }
-
-func lift(pod, cell int) api.Act { return api.Act{Kind: api.ActLift, Cell: cell, Pod: pod} }
-
-func drop(pod, cell int) api.Act { return api.Act{Kind: api.ActDrop, Cell: cell, Pod: pod} }
+var goTo, lift, drop = sample.Go, sample.Lift, sample.Drop
 
 func acts(l ...api.Act) []api.Act { return l }
 
