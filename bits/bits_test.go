@@ -9,6 +9,7 @@ import (
 	"testing"
 
 	"carfax/api"
+	"carfax/sample"
 )
 
 // The tests hold the package against texts of 0 and 1, that are made by strconv and strings alone.
@@ -18,33 +19,6 @@ const (
 	// The greatest number that may be laid as a count.
 	greatestCount = greatest - 1
 )
-
-func putText(n uint64, many int) string {
-	all := strconv.FormatUint(n, 2)
-	all = strings.Repeat("0", 64-len(all)) + all
-	return all[64-many:]
-}
-
-func countText(n uint64) string {
-	m := strconv.FormatUint(n+1, 2)
-	return strings.Repeat("0", len(m)-1) + m
-}
-
-// bytesOf is the bytes of a text of 0 and 1, with 0 behind it up to a whole byte.
-func bytesOf(text string) []byte {
-	for len(text)%8 != 0 {
-		text += "0"
-	}
-	var out []byte
-	for ; text != ""; text = text[8:] {
-		n, err := strconv.ParseUint(text[:8], 2, 8)
-		if err != nil {
-			panic(err)
-		}
-		out = append(out, byte(n))
-	}
-	return out
-}
 
 func wantErrno(t *testing.T, what string, got, want api.Errno) {
 	t.Helper()
@@ -58,7 +32,7 @@ func wantLaid(t *testing.T, what string, w *Writer, text string) {
 	if w.Len() != len(text) {
 		t.Errorf("%s: Len %d, want %d", what, w.Len(), len(text))
 	}
-	if got, want := w.Out(), bytesOf(text); !slices.Equal(got, want) {
+	if got, want := w.Out(), sample.BytesOf(text); !slices.Equal(got, want) {
 		t.Errorf("%s: Out %08b, want %08b", what, got, want)
 	}
 }
@@ -100,19 +74,6 @@ func numbers(many int) []uint64 {
 	return out
 }
 
-// counts is numbers that may be laid as counts: small ones, and those about each power of two.
-func counts() []uint64 {
-	var out []uint64
-	for n := range uint64(1000) {
-		out = append(out, n)
-	}
-	for k := 10; k < 64; k++ {
-		p := uint64(1) << k
-		out = append(out, p-2, p-1, p, p+1)
-	}
-	return append(out, greatestCount-1, greatestCount)
-}
-
 // P1.1
 
 func TestNothingIsLaidAtFirst(t *testing.T) {
@@ -135,7 +96,7 @@ func TestPutLaysTheLowestBitsOnly(t *testing.T) {
 			w := NewWriter()
 			what := "Put(" + strconv.FormatUint(n, 10) + ", " + strconv.Itoa(many) + ")"
 			wantErrno(t, what, w.Put(n, many), api.OK)
-			wantLaid(t, what, w, putText(n, many))
+			wantLaid(t, what, w, sample.PutText(n, many))
 		}
 	}
 }
@@ -188,11 +149,11 @@ func TestCountExamples(t *testing.T) {
 }
 
 func TestCountOfAllSizes(t *testing.T) {
-	for _, n := range counts() {
+	for _, n := range sample.Counts() {
 		w := NewWriter()
 		what := "Count(" + strconv.FormatUint(n, 10) + ")"
 		wantErrno(t, what, w.Count(n), api.OK)
-		wantLaid(t, what, w, countText(n))
+		wantLaid(t, what, w, sample.CountText(n))
 	}
 }
 
@@ -233,11 +194,11 @@ func TestBitsAreLaidOneBehindTheOther(t *testing.T) {
 		if i%3 == 0 {
 			n = min(n, greatestCount)
 			wantErrno(t, "Count", w.Count(n), api.OK)
-			text += countText(n)
+			text += sample.CountText(n)
 		} else {
 			many := i % 65
 			wantErrno(t, "Put", w.Put(n, many), api.OK)
-			text += putText(n, many)
+			text += sample.PutText(n, many)
 		}
 		wantLaid(t, "number "+strconv.Itoa(i), w, text)
 	}
@@ -249,13 +210,13 @@ func TestOutIsTheCallers(t *testing.T) {
 	first := w.Out()
 	first[0] = 0
 	_ = append(first[:1], 7)
-	wantLaid(t, "behind a change of an answer", w, putText(0xabc, 12))
+	wantLaid(t, "behind a change of an answer", w, sample.PutText(0xabc, 12))
 	second := w.Out()
 	w.Put(15, 4)
 	if !slices.Equal(second, []byte{0xab, 0xc0}) {
 		t.Errorf("a later Put changed an answer: %x", second)
 	}
-	wantLaid(t, "behind one more Put", w, putText(0xabcf, 16))
+	wantLaid(t, "behind one more Put", w, sample.PutText(0xabcf, 16))
 }
 
 func TestWritersStandApart(t *testing.T) {
@@ -296,8 +257,8 @@ func TestGetTakesTheNextBits(t *testing.T) {
 
 func TestGetOfAWholeWord(t *testing.T) {
 	for lead := range 8 {
-		text := strings.Repeat("0", lead) + putText(0x8123456789abcdef, 64)
-		r := NewReader(bytesOf(text))
+		text := strings.Repeat("0", lead) + sample.PutText(0x8123456789abcdef, 64)
+		r := NewReader(sample.BytesOf(text))
 		wantNumber(t, "lead", r.Get(lead), 0)
 		wantNumber(t, "Get(64)", r.Get(64), 0x8123456789abcdef)
 		wantReader(t, "behind Get(64)", r, (8-lead)%8, api.OK)
@@ -331,10 +292,10 @@ func TestGetOfMoreThanIsLeft(t *testing.T) {
 }
 
 func TestCountIsTaken(t *testing.T) {
-	for _, n := range counts() {
+	for _, n := range sample.Counts() {
 		for _, lead := range []int{0, 3, 7} {
-			text := strings.Repeat("1", lead) + countText(n)
-			b := bytesOf(text)
+			text := strings.Repeat("1", lead) + sample.CountText(n)
+			b := sample.BytesOf(text)
 			r := NewReader(b)
 			r.Get(lead)
 			what := "Count of " + strconv.FormatUint(n, 10)
@@ -362,7 +323,7 @@ func TestCountWithZerosAheadOfTheFirstOne(t *testing.T) {
 		text := strings.Repeat("0", x.zeros) + "1" + strings.Repeat("1", x.tail)
 		// Bits 1 are taken first, so that the text ends with its bytes.
 		lead := (8 - len(text)%8) % 8
-		r := NewReader(bytesOf(strings.Repeat("1", lead) + text))
+		r := NewReader(sample.BytesOf(strings.Repeat("1", lead) + text))
 		r.Get(lead)
 		n, left := r.Count(), len(text)
 		if x.end == api.OK {
@@ -378,7 +339,7 @@ func TestCountWithZerosAheadOfTheFirstOne(t *testing.T) {
 func TestCountWithZerosAheadOfTheEnd(t *testing.T) {
 	for zeros := range 130 {
 		lead := (8 - zeros%8) % 8
-		r := NewReader(bytesOf(strings.Repeat("1", lead) + strings.Repeat("0", zeros)))
+		r := NewReader(sample.BytesOf(strings.Repeat("1", lead) + strings.Repeat("0", zeros)))
 		r.Get(lead)
 		what := strconv.Itoa(zeros) + " bits 0 ahead of the end"
 		end := api.ErrShort
@@ -492,7 +453,7 @@ func TestEndOfWhatIsLeft(t *testing.T) {
 		{strings.Repeat("0", 160), 0, api.ErrTail},
 		{strings.Repeat("0", 160), 16, api.ErrTail},
 	} {
-		r := NewReader(bytesOf(x.text))
+		r := NewReader(sample.BytesOf(x.text))
 		r.Get(x.taken)
 		what := x.text + " behind " + strconv.Itoa(x.taken)
 		wantReader(t, what, r, len(x.text)-x.taken, x.end)
@@ -528,7 +489,7 @@ func TestReaderOfNothing(t *testing.T) {
 // P1.4
 
 func TestWhatWasLaidIsTakenAgain(t *testing.T) {
-	all := append(numbers(400), counts()...)
+	all := append(numbers(400), sample.Counts()...)
 	for shift := range 65 {
 		w := NewWriter()
 		for i, n := range all {
@@ -544,7 +505,7 @@ func TestWhatWasLaidIsTakenAgain(t *testing.T) {
 				wantNumber(t, "Count", r.Count(), min(n, greatestCount))
 			} else {
 				many := (i + shift) % 65
-				lowest, _ := strconv.ParseUint("0"+putText(n, many), 2, 64)
+				lowest, _ := strconv.ParseUint("0"+sample.PutText(n, many), 2, 64)
 				wantNumber(t, "Get", r.Get(many), lowest)
 			}
 		}
@@ -565,7 +526,7 @@ func TestAsMuchAsMayBeLaidIsTakenAgain(t *testing.T) {
 // P1.5
 
 func TestHowManyBitsACountNeeds(t *testing.T) {
-	for _, n := range counts() {
+	for _, n := range sample.Counts() {
 		w := NewWriter()
 		w.Count(n)
 		more := len(strconv.FormatUint(n+1, 2)) - 1
@@ -578,7 +539,7 @@ func TestHowManyBitsACountNeeds(t *testing.T) {
 func TestNoCountIsTheBeginningOfAnother(t *testing.T) {
 	seen := map[uint64]bool{}
 	var texts []string
-	for _, n := range counts() {
+	for _, n := range sample.Counts() {
 		if seen[n] {
 			continue
 		}
@@ -587,7 +548,7 @@ func TestNoCountIsTheBeginningOfAnother(t *testing.T) {
 		w.Count(n)
 		text := ""
 		for _, b := range w.Out() {
-			text += putText(uint64(b), 8)
+			text += sample.PutText(uint64(b), 8)
 		}
 		texts = append(texts, text[:w.Len()])
 	}

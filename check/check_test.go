@@ -7,6 +7,7 @@ import (
 	"testing"
 
 	"carfax/api"
+	"carfax/sample"
 )
 
 // slowSum works the sum out on a list of bits, one by one, as P2.1 tells it.
@@ -37,17 +38,6 @@ func slowFrame(number int, b []byte) []byte {
 	f := append([]byte{byte(number / 256), byte(number % 256)}, b...)
 	sum := slowSum(f)
 	return append(f, byte(sum/256), byte(sum%256))
-}
-
-// some is so many bytes that look mixed, other ones for another seed.
-func some(many, seed int) []byte {
-	b := make([]byte, many)
-	n := uint32(seed)*2654435761 + 1
-	for i := range b {
-		n = n*1664525 + 1013904223
-		b[i] = byte(n >> 24)
-	}
-	return b
 }
 
 func sizes() []int {
@@ -122,7 +112,7 @@ func TestSumOfOneAndTwoBytes(t *testing.T) {
 
 func TestSumOfMoreThanMayBeFramed(t *testing.T) {
 	for _, many := range append(sizes(), 1001, 5000, 65536, 70000) {
-		b := some(many, many)
+		b := sample.Bytes(many, many)
 		if Sum(b) != slowSum(b) {
 			t.Errorf("Sum of %d bytes: %04X, want %04X", many, Sum(b), slowSum(b))
 		}
@@ -143,7 +133,7 @@ func TestFrameOfNoBytes(t *testing.T) {
 
 func TestFrameOfSomeBytes(t *testing.T) {
 	for _, many := range sizes() {
-		b := some(many, 1)
+		b := sample.Bytes(many, 1)
 		if f := framed(t, b); !bytes.Equal(f, slowFrame(many, b)) {
 			t.Errorf("Frame of %d bytes: %v", many, f)
 		}
@@ -159,14 +149,14 @@ func TestFrameOfMoreThanMayBe(t *testing.T) {
 }
 
 func TestOpenOfMoreThanMayBe(t *testing.T) {
-	wantOpened(t, "1000 bytes", slowFrame(1000, some(1000, 2)), some(1000, 2))
+	wantOpened(t, "1000 bytes", slowFrame(1000, sample.Bytes(1000, 2)), sample.Bytes(1000, 2))
 	for _, many := range []int{1001, 1002, 5000, 65535, 65536, 65537} {
-		wantNoFrame(t, "more than 1000 bytes", slowFrame(many%65536, some(many, 2)))
+		wantNoFrame(t, "more than 1000 bytes", slowFrame(many%65536, sample.Bytes(many, 2)))
 	}
 }
 
 func TestOpenOfAnotherNumber(t *testing.T) {
-	b := some(300, 3)
+	b := sample.Bytes(300, 3)
 	for _, number := range []int{0, 44, 296, 298, 299, 301, 302, 304, 556, 65535} {
 		wantNoFrame(t, "a number that is not how many there are", slowFrame(number, b))
 	}
@@ -218,14 +208,14 @@ func TestScanOfFrames(t *testing.T) {
 	var all []byte
 	var want [][]byte
 	for i, many := range sizes() {
-		b := some(many, i)
+		b := sample.Bytes(many, i)
 		all, want = append(all, framed(t, b)...), append(want, b)
 		wantScanned(t, "frames", all, want, len(all))
 	}
 }
 
 func TestScanUpToTheFirstThatIsNone(t *testing.T) {
-	one, two, three := framed(t, []byte("one")), framed(t, nil), framed(t, some(700, 4))
+	one, two, three := framed(t, []byte("one")), framed(t, nil), framed(t, sample.Bytes(700, 4))
 	all := slices.Concat(one, two, three)
 	for i := range all {
 		spoilt := slices.Clone(all)
@@ -242,7 +232,7 @@ func TestScanUpToTheFirstThatIsNone(t *testing.T) {
 }
 
 func TestScanOfWhatIsCutOff(t *testing.T) {
-	parts := [][]byte{[]byte("one"), nil, some(300, 5), []byte("x")}
+	parts := [][]byte{[]byte("one"), nil, sample.Bytes(300, 5), []byte("x")}
 	var all []byte
 	ends := []int{0}
 	for _, b := range parts {
@@ -262,12 +252,12 @@ func TestScanOfWhatIsCutOff(t *testing.T) {
 func TestScanOfMoreThanMayBe(t *testing.T) {
 	small := framed(t, []byte("small"))
 	for _, many := range []int{1001, 65535} {
-		long := slowFrame(many, some(many, 6))
+		long := slowFrame(many, sample.Bytes(many, 6))
 		wantScanned(t, "too long", slices.Concat(long, small), nil, 0)
 		wantScanned(t, "behind a frame", slices.Concat(small, long, small), [][]byte{[]byte("small")}, len(small))
 	}
-	longest := slowFrame(1000, some(1000, 6))
-	wantScanned(t, "as long as may be", slices.Concat(longest, small), [][]byte{some(1000, 6), []byte("small")}, len(longest)+len(small))
+	longest := slowFrame(1000, sample.Bytes(1000, 6))
+	wantScanned(t, "as long as may be", slices.Concat(longest, small), [][]byte{sample.Bytes(1000, 6), []byte("small")}, len(longest)+len(small))
 }
 
 func TestScanSkipsNothing(t *testing.T) {
@@ -290,10 +280,10 @@ func TestScanOfManyFrames(t *testing.T) {
 
 func TestWhatWasFramedIsOpened(t *testing.T) {
 	for many := range api.MaxFrame + 1 {
-		b := some(many, 7)
+		b := sample.Bytes(many, 7)
 		wantOpened(t, "framed", framed(t, b), b)
 	}
-	for _, b := range [][]byte{make([]byte, 1000), slices.Repeat([]byte{255}, 1000), framed(t, some(996, 8))} {
+	for _, b := range [][]byte{make([]byte, 1000), slices.Repeat([]byte{255}, 1000), framed(t, sample.Bytes(996, 8))} {
 		wantOpened(t, "framed", framed(t, b), b)
 	}
 }
@@ -326,7 +316,7 @@ func TestNoBeginningOfAFrameIsOne(t *testing.T) {
 	zeros := strings.Repeat("\x00", 1000)
 	// A frame stands within a frame, and bytes 0, with which sums may stay as they are.
 	inside := string(framed(t, []byte("inside")))
-	for _, b := range []string{"", "a", "some bytes", inside, inside + inside, zeros, "\xff\xff" + zeros[:500], string(some(1000, 9))} {
+	for _, b := range []string{"", "a", "some bytes", inside, inside + inside, zeros, "\xff\xff" + zeros[:500], string(sample.Bytes(1000, 9))} {
 		f := framed(t, []byte(b))
 		for i := range f {
 			wantNoFrame(t, "a beginning", f[:i])
@@ -338,14 +328,14 @@ func TestNoBeginningOfAFrameIsOne(t *testing.T) {
 
 func TestWhateverStandsBehindFrames(t *testing.T) {
 	inside := framed(t, []byte("in"))
-	parts := [][]byte{[]byte("one"), nil, inside, some(1000, 10), nil}
+	parts := [][]byte{[]byte("one"), nil, inside, sample.Bytes(1000, 10), nil}
 	var all []byte
 	for _, b := range parts {
 		all = append(all, framed(t, b)...)
 	}
 	for _, behind := range [][]byte{
 		nil, {0}, {0, 0}, {0, 0, 29}, {0, 0, 29, 14}, {0, 9, 1}, {255}, {255, 255}, {255, 255, 0, 0},
-		make([]byte, 5000), slices.Repeat([]byte{255}, 70000), some(3000, 11),
+		make([]byte, 5000), slices.Repeat([]byte{255}, 70000), sample.Bytes(3000, 11),
 		append([]byte{0}, inside...), inside[:len(inside)-1], inside[1:],
 	} {
 		wantScanned(t, "with bytes behind", slices.Concat(all, behind), parts, len(all))
@@ -399,7 +389,7 @@ func TestAllRunsOfOtherBitsInShortFrames(t *testing.T) {
 
 func TestRunsOfOtherBitsInLongerFrames(t *testing.T) {
 	patterns := []uint16{0x8000, 0xC000, 0xA000, 0xFF00, 0xFFFF, 0x8001, 0x8811, 0x8810, 0x9021, 0xAAAA, 0xFFFE, 0x8080}
-	for _, b := range [][]byte{[]byte("some bytes"), make([]byte, 60), some(300, 12), some(1000, 13)} {
+	for _, b := range [][]byte{[]byte("some bytes"), make([]byte, 60), sample.Bytes(300, 12), sample.Bytes(1000, 13)} {
 		f := framed(t, b)
 		for at := range 8 * len(f) {
 			// All of them at the number and at the sum, one or another between.
@@ -450,7 +440,7 @@ func TestAnswersAreTheCallers(t *testing.T) {
 
 func TestThereIsNoRoomBehindWhatIsOpened(t *testing.T) {
 	for _, many := range sizes() {
-		f := framed(t, some(many, 14))
+		f := framed(t, sample.Bytes(many, 14))
 		opened, _ := Open(f)
 		scanned, _ := Scan(slices.Concat(f, f))
 		for _, x := range append(scanned, opened) {
@@ -475,7 +465,7 @@ func TestWhatIsBehindAListIsNotRead(t *testing.T) {
 }
 
 func TestTheSameCallsAnswerTheSame(t *testing.T) {
-	b := some(500, 15)
+	b := sample.Bytes(500, 15)
 	for range 3 {
 		if Sum(b) != slowSum(b) || !bytes.Equal(framed(t, b), slowFrame(500, b)) {
 			t.Error("a call hangs on those ahead of it")
@@ -490,7 +480,7 @@ func FuzzOpenAndScan(f *testing.F) {
 	f.Add([]byte{})
 	f.Add([]byte{0, 0, 29, 15, 0})
 	f.Add(slices.Concat(slowFrame(3, []byte("one")), slowFrame(0, nil)))
-	f.Add(slowFrame(1001, some(1001, 16)))
+	f.Add(slowFrame(1001, sample.Bytes(1001, 16)))
 	f.Fuzz(func(t *testing.T, b []byte) {
 		if inside, ok := Open(b); ok {
 			if again, e := Frame(inside); e != api.OK || !bytes.Equal(again, b) {

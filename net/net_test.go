@@ -505,19 +505,11 @@ func TestWhatIsHandedInIsNeitherChangedNorKept(t *testing.T) {
 		t.Errorf("behind a change of what was handed in: %q", p)
 	}
 	p, _ := n.Take(0)
-	spoil(p)
+	sample.Spoil(p, '!')
 	q, _ := n.Take(0)
-	spoil(q)
+	sample.Spoil(q, '!')
 	if string(room) != "uvwxyz" {
 		t.Errorf("an answer's change has changed what was handed in to %q", room)
-	}
-}
-
-// spoil changes bytes, and the room behind them.
-func spoil(p []byte) {
-	p = p[:cap(p)]
-	for i := range p {
-		p[i] = '!'
 	}
 }
 
@@ -525,18 +517,18 @@ func TestAnswersAreTheCallers(t *testing.T) {
 	b := filled(t, "ab", "cd", "ef")
 	first, _ := b.n.Peek(1)
 	second, _ := b.n.Peek(1)
-	spoil(first)
+	sample.Spoil(first, '!')
 	if string(second) != "cd" {
 		t.Errorf("another answer's change has changed one to %q", second)
 	}
 	b.wantUnder("ab", "cd", "ef")
 	taken, _ := b.n.Take(1)
 	b.s.take(1)
-	spoil(second)
+	sample.Spoil(second, '!')
 	if string(taken) != "cd" {
 		t.Errorf("another answer's change has changed one to %q", taken)
 	}
-	spoil(taken)
+	sample.Spoil(taken, '!')
 	b.wantUnder("ab", "ef")
 	kept, _ := b.n.Peek(1)
 	b.lose(0)

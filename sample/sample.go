@@ -1,8 +1,9 @@
-// Package sample is what the tests of several packages try: numbers, cells, floors and acts. Nothing but tests calls it.
+// Package sample is what the tests of several packages try: numbers, bits, bytes, cells, floors and acts. Nothing but tests calls it.
 package sample
 
 import (
 	"math"
+	"strconv"
 	"strings"
 
 	"carfax/api"
@@ -14,6 +15,64 @@ func Numbers(seed int) func(below int) int {
 	return func(below int) int {
 		n = n*1664525 + 1013904223
 		return int(n>>16) % below
+	}
+}
+
+// Bytes is so many bytes that look mixed, other ones for another seed.
+func Bytes(many, seed int) []byte {
+	b := make([]byte, many)
+	n := uint32(seed)*2654435761 + 1
+	for i := range b {
+		n = n*1664525 + 1013904223
+		b[i] = byte(n >> 24)
+	}
+	return b
+}
+
+// Counts is numbers that may be laid as counts: small ones, and those about each power of two.
+func Counts() []uint64 {
+	var out []uint64
+	for n := range uint64(1000) {
+		out = append(out, n)
+	}
+	for k := 10; k < 64; k++ {
+		p := uint64(1) << k
+		out = append(out, p-2, p-1, p, p+1)
+	}
+	return append(out, math.MaxUint64-2, math.MaxUint64-1)
+}
+
+// PutText is the many lowest bits of a number as a text of 0 and 1, as they are laid.
+func PutText(n uint64, many int) string {
+	all := strconv.FormatUint(n, 2)
+	all = strings.Repeat("0", 64-len(all)) + all
+	return all[64-many:]
+}
+
+// CountText is a number as it is laid as a count, as a text of 0 and 1.
+func CountText(n uint64) string {
+	m := strconv.FormatUint(n+1, 2)
+	return strings.Repeat("0", len(m)-1) + m
+}
+
+// BytesOf is the bytes of a text of 0 and 1, with 0 behind it up to a whole byte.
+func BytesOf(text string) []byte {
+	for len(text)%8 != 0 {
+		text += "0"
+	}
+	var out []byte
+	for ; text != ""; text = text[8:] {
+		n, _ := strconv.ParseUint(text[:8], 2, 8)
+		out = append(out, byte(n))
+	}
+	return out
+}
+
+// Spoil changes a list, and the room behind its length.
+func Spoil[T any](l []T, with T) {
+	l = l[:cap(l)]
+	for i := range l {
+		l[i] = with
 	}
 }
 

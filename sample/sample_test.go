@@ -50,3 +50,37 @@ func TestNumbersAreTheSameForTheSameSeed(t *testing.T) {
 		}
 	}
 }
+
+func TestBytesAreTheSameForTheSameSeed(t *testing.T) {
+	for many := range 300 {
+		b := Bytes(many, 7)
+		if len(b) != many || !slices.Equal(b, Bytes(many, 7)) {
+			t.Errorf("%d bytes: %v", many, b)
+		}
+	}
+	if slices.Equal(Bytes(9, 1), Bytes(9, 2)) {
+		t.Error("another seed makes the same bytes")
+	}
+}
+
+func TestTextsOfBits(t *testing.T) {
+	for _, x := range []struct{ got, want string }{
+		{PutText(5, 3), "101"}, {PutText(5, 1), "1"}, {PutText(5, 0), ""}, {PutText(1, 4), "0001"},
+		{CountText(0), "1"}, {CountText(1), "010"}, {CountText(4), "00101"},
+	} {
+		if x.got != x.want {
+			t.Errorf("%q, want %q", x.got, x.want)
+		}
+	}
+	if b := BytesOf("0000001011"); !slices.Equal(b, []byte{2, 192}) {
+		t.Errorf("%v", b)
+	}
+}
+
+func TestSpoilChangesTheRoomBehindAList(t *testing.T) {
+	l := []int{1, 2, 3, 4}
+	Spoil(l[1:2:3], 9)
+	if !slices.Equal(l, []int{1, 9, 9, 4}) {
+		t.Errorf("%v", l)
+	}
+}

@@ -982,14 +982,6 @@ func listsOf(claims []api.Claim) [][]int {
 	return all
 }
 
-// spoil changes a list, and the room behind its length.
-func spoil[T any](l []T, with T) {
-	l = l[:cap(l)]
-	for i := range l {
-		l[i] = with
-	}
-}
-
 // underWay is two robots that hold and need something.
 func underWay(t *testing.T) both {
 	t.Helper()
@@ -1006,11 +998,11 @@ func TestAnswersAreTheCallers(t *testing.T) {
 	b := underWay(t)
 	left, claims := b.s.Left(0), b.s.Claims()
 	spoilAll := func() {
-		spoil(b.s.Left(0), api.Act{Kind: 9, Cell: -9, Pod: -9})
+		sample.Spoil(b.s.Left(0), api.Act{Kind: 9, Cell: -9, Pod: -9})
 		for _, l := range listsOf(b.s.Claims()) {
-			spoil(l, 99)
+			sample.Spoil(l, 99)
 		}
-		spoil(b.s.Claims(), api.Claim{Hold: list(9), Need: list(9)})
+		sample.Spoil(b.s.Claims(), api.Claim{Hold: list(9), Need: list(9)})
 	}
 	spoilAll()
 	b.like()
@@ -1028,7 +1020,7 @@ func TestListsOfOneAnswerStandApart(t *testing.T) {
 	want := listsOf(b.m.claims())
 	for spoilt := range want {
 		lists := listsOf(b.s.Claims())
-		spoil(lists[spoilt], 99)
+		sample.Spoil(lists[spoilt], 99)
 		for i, l := range lists {
 			if i != spoilt && !slices.Equal(l, want[i]) {
 				t.Errorf("list %d is %v behind a change of list %d, want %v", i, l, spoilt, want[i])
