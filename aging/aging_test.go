@@ -560,23 +560,16 @@ func (b both) do(c call) {
 
 func TestAllOrdersOfCalls(t *testing.T) {
 	calls := []call{{'a', 3}, {'a', 4}, {'a', 5}, {'t', 0}, {'d', 0}, {'d', 1}}
-	var try func(step int, made []call)
-	try = func(step int, made []call) {
-		b := begun(t, step)
-		for _, c := range made {
-			b.do(c)
-		}
-		if t.Failed() {
-			t.Fatalf("step %d: behind %v", step, made)
-		}
-		for _, c := range calls {
-			if len(made) < 6 {
-				try(step, append(made, c))
-			}
-		}
-	}
 	for step := range 3 {
-		try(step, nil)
+		sample.Orders(calls, 6, func(made []call) {
+			b := begun(t, step)
+			for _, c := range made {
+				b.do(c)
+			}
+			if t.Failed() {
+				t.Fatalf("step %d: behind %v", step, made)
+			}
+		})
 	}
 }
 

@@ -611,8 +611,7 @@ func (b both) do(c call) {
 
 func TestAllOrdersOfCalls(t *testing.T) {
 	calls := []call{{'a', 2}, {'s', 0}, {'o', 1}, {'o', 3}, {'c', 0}, {'c', 1}, {'c', -1}, {'p', 1}}
-	var try func(made []call)
-	try = func(made []call) {
+	sample.Orders(calls, 5, func(made []call) {
 		b := begun(t)
 		for _, c := range made {
 			b.do(c)
@@ -620,13 +619,7 @@ func TestAllOrdersOfCalls(t *testing.T) {
 		if t.Failed() {
 			t.Fatalf("behind %v", made)
 		}
-		for _, c := range calls {
-			if len(made) < 5 {
-				try(append(made, c))
-			}
-		}
-	}
-	try(nil)
+	})
 }
 
 // No Cutoff: whatever is appended, and whenever the power fails, all that was safe stays, and what is there is a beginning of what was appended since it was there.

@@ -392,8 +392,7 @@ func TestAllOrdersOfCalls(t *testing.T) {
 			calls = append(calls, call{false, robot, zone}, call{true, robot, zone})
 		}
 	}
-	var try func(made []call)
-	try = func(made []call) {
+	sample.Orders(calls, 5, func(made []call) {
 		x, s := New(), &slow{}
 		for _, c := range made {
 			do(t, x, s, c)
@@ -408,13 +407,7 @@ func TestAllOrdersOfCalls(t *testing.T) {
 		if t.Failed() {
 			t.Fatalf("behind %v", made)
 		}
-		for _, c := range calls {
-			if len(made) < 5 {
-				try(append(made, c))
-			}
-		}
-	}
-	try(nil)
+	})
 }
 
 func TestManyMixedCalls(t *testing.T) {

@@ -439,8 +439,7 @@ func (b both) do(c call) {
 
 func TestAllOrdersOfCalls(t *testing.T) {
 	calls := []call{{'s', 0}, {'t', 0}, {'t', 1}, {'p', 1}, {'l', 0}, {'l', 2}}
-	var try func(made []call)
-	try = func(made []call) {
+	sample.Orders(calls, 6, func(made []call) {
 		b := begun(t)
 		for _, c := range made {
 			b.do(c)
@@ -448,13 +447,7 @@ func TestAllOrdersOfCalls(t *testing.T) {
 		if t.Failed() {
 			t.Fatalf("behind %v", made)
 		}
-		for _, c := range calls {
-			if len(made) < 6 {
-				try(append(made, c))
-			}
-		}
-	}
-	try(nil)
+	})
 }
 
 func TestManyMixedCalls(t *testing.T) {

@@ -1,4 +1,4 @@
-// Package sample is what the tests of several packages try: numbers, bits, bytes, cells, floors and acts. Nothing but tests calls it.
+// Package sample is what the tests of several packages try: numbers, orders of calls, bits, bytes, cells, floors and acts. Nothing but tests calls it.
 package sample
 
 import (
@@ -73,6 +73,21 @@ func Spoil[T any](l []T, with T) {
 	l = l[:cap(l)]
 	for i := range l {
 		l[i] = with
+	}
+}
+
+// Orders tries all lists of up to so many of some things, each behind the shorter ones with which it begins. The list's room is used again behind the call.
+func Orders[T any](of []T, most int, try func(made []T)) {
+	orders(of, make([]T, 0, most), most, try)
+}
+
+func orders[T any](of, made []T, most int, try func(made []T)) {
+	try(made)
+	if len(made) >= most {
+		return
+	}
+	for _, one := range of {
+		orders(of, append(made, one), most, try)
 	}
 }
 

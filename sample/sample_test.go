@@ -2,6 +2,7 @@ package sample
 
 import (
 	"slices"
+	"strings"
 	"testing"
 
 	"carfax/api"
@@ -74,6 +75,21 @@ func TestTextsOfBits(t *testing.T) {
 	}
 	if b := BytesOf("0000001011"); !slices.Equal(b, []byte{2, 192}) {
 		t.Errorf("%v", b)
+	}
+}
+
+func TestOrdersAreAll(t *testing.T) {
+	var got []string
+	Orders([]string{"a", "b"}, 2, func(made []string) { got = append(got, strings.Join(made, "")) })
+	if want := []string{"", "a", "aa", "ab", "b", "ba", "bb"}; !slices.Equal(got, want) {
+		t.Errorf("%q", got)
+	}
+	for most := range 5 {
+		many := 0
+		Orders([]int{1, 2, 3}, most, func(made []int) { many++ })
+		if want := []int{1, 4, 13, 40, 121}[most]; many != want {
+			t.Errorf("%d lists of up to %d, want %d", many, most, want)
+		}
 	}
 }
 

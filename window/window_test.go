@@ -490,8 +490,7 @@ func TestAllOrdersOfCalls(t *testing.T) {
 			calls = append(calls, step{take, 0, win(from, to)}, step{drop, 0, win(from, to)})
 		}
 	}
-	var try func(made []step)
-	try = func(made []step) {
+	sample.Orders(calls, 4, func(made []step) {
 		x, s := New(), &slow{}
 		for _, c := range made {
 			do(t, x, s, c)
@@ -499,13 +498,7 @@ func TestAllOrdersOfCalls(t *testing.T) {
 		if got, free := x.Taken(0), x.Free(0); !slices.Equal(got, s.of(0)) || !slices.Equal(free, s.free(0)) {
 			t.Fatalf("%v: Taken %v, want %v; Free %v, want %v", made, got, s.of(0), free, s.free(0))
 		}
-		for _, c := range calls {
-			if len(made) < 4 {
-				try(append(made, c))
-			}
-		}
-	}
-	try(nil)
+	})
 }
 
 func TestManyMixedCalls(t *testing.T) {
