@@ -167,7 +167,7 @@ func (b both) like() {
 	b.t.Helper()
 	got, e := b.d.Read()
 	if want, wantE := b.s.read(); string(got) != want || e != wantE {
-		b.t.Errorf("Read is %q, error %d, want %q, error %d", short(string(got)), e, short(want), wantE)
+		b.t.Errorf("Read is %q, error %d, want %q, error %d", sample.Short(string(got)), e, sample.Short(want), wantE)
 	}
 	if b.d.Dead() != b.s.off {
 		b.t.Errorf("Dead is %v", b.d.Dead())
@@ -181,7 +181,7 @@ func (b both) like() {
 func (b both) wants(want string, safe int) {
 	b.t.Helper()
 	if got, e := b.d.Read(); string(got) != want || e != api.OK || b.d.Dead() || b.d.Safe() != safe {
-		b.t.Errorf("%q, error %d, safe %d, dead %v, want %q, safe %d", short(string(got)), e, b.d.Safe(), b.d.Dead(), short(want), safe)
+		b.t.Errorf("%q, error %d, safe %d, dead %v, want %q, safe %d", sample.Short(string(got)), e, b.d.Safe(), b.d.Dead(), sample.Short(want), safe)
 	}
 	b.like()
 }
@@ -190,7 +190,7 @@ func (b both) wants(want string, safe int) {
 func (b both) wantsDead(safe int) {
 	b.t.Helper()
 	if got, e := b.d.Read(); len(got) != 0 || e != api.ErrDead || !b.d.Dead() || b.d.Safe() != safe {
-		b.t.Errorf("%q, error %d, safe %d, dead %v, want safe %d, dead", short(string(got)), e, b.d.Safe(), b.d.Dead(), safe)
+		b.t.Errorf("%q, error %d, safe %d, dead %v, want safe %d, dead", sample.Short(string(got)), e, b.d.Safe(), b.d.Dead(), safe)
 	}
 	b.like()
 }
@@ -199,13 +199,6 @@ func (b both) want(what string, got, want api.Errno) {
 	b.t.Helper()
 	b.same(what, got, want)
 	b.like()
-}
-
-func short(text string) string {
-	if len(text) > 60 {
-		return text[:60] + ".. of " + strconv.Itoa(len(text))
-	}
-	return text
 }
 
 // off is a disk whose power is off, with bytes that are safe and others that are not.

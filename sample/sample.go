@@ -68,6 +68,14 @@ func BytesOf(text string) []byte {
 	return out
 }
 
+// Short is a text as it is told in a failure: of a long one its beginning, and how long it is.
+func Short(text string) string {
+	if len(text) > 60 {
+		return text[:60] + ".. of " + strconv.Itoa(len(text))
+	}
+	return text
+}
+
 // Spoil changes a list, and the room behind its length.
 func Spoil[T any](l []T, with T) {
 	l = l[:cap(l)]

@@ -78,6 +78,15 @@ func TestTextsOfBits(t *testing.T) {
 	}
 }
 
+func TestShortTellsHowLongALongTextIs(t *testing.T) {
+	sixty := strings.Repeat("x", 60)
+	for text, want := range map[string]string{"": "", "ab": "ab", sixty: sixty, sixty + "yz": sixty + ".. of 62"} {
+		if got := Short(text); got != want {
+			t.Errorf("%q, want %q", got, want)
+		}
+	}
+}
+
 func TestOrdersAreAll(t *testing.T) {
 	var got []string
 	Orders([]string{"a", "b"}, 2, func(made []string) { got = append(got, strings.Join(made, "")) })
