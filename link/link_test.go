@@ -808,17 +808,6 @@ type over struct {
 	draw     func(below int) int
 }
 
-// packet is one that comes now, at any place, and may come again.
-func (o over) packet(n *net.Net) []byte {
-	at := o.draw(n.Len() + 1)
-	if o.draw(3) == 0 {
-		b, _ := n.Peek(at)
-		return b
-	}
-	b, _ := n.Take(at)
-	return b
-}
-
 func (o over) do() {
 	switch o.draw(9) {
 	case 0:
@@ -828,11 +817,11 @@ func (o over) do() {
 			o.to.Send(b)
 		}
 	case 4, 5:
-		if back := o.comes(o.packet(o.to)); len(back) > 0 {
+		if back := o.comes(sample.Comes(o.to, o.draw)); len(back) > 0 {
 			o.from.Send(back)
 		}
 	case 6, 7:
-		o.s.Hear(o.packet(o.from))
+		o.s.Hear(sample.Comes(o.from, o.draw))
 	case 8:
 		o.to.Lose(o.draw(3))
 		o.from.Lose(o.draw(3))

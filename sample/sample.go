@@ -1,4 +1,4 @@
-// Package sample is what the tests of several packages try: numbers, orders of calls, bits, bytes, cells, floors and acts. Nothing but tests calls it.
+// Package sample is what the tests of several packages try: numbers, orders of calls, bits, bytes, packets, cells, floors and acts. Nothing but tests calls it.
 package sample
 
 import (
@@ -97,6 +97,24 @@ func orders[T any](of, made []T, most int, try func(made []T)) {
 	for _, one := range of {
 		orders(of, append(made, one), most, try)
 	}
+}
+
+// Network is packets under way.
+type Network interface {
+	Len() int
+	Take(at int) ([]byte, bool)
+	Peek(at int) ([]byte, bool)
+}
+
+// Comes is a packet that comes now, from any place of a network, and may come again; none at all now and then.
+func Comes(n Network, draw func(below int) int) []byte {
+	take := n.Take
+	at := draw(n.Len() + 1)
+	if draw(3) == 0 {
+		take = n.Peek
+	}
+	b, _ := take(at)
+	return b
 }
 
 // Outside is numbers that are no cell, robot or pod of any floor; some of them are one, if their lowest bits alone are looked at.

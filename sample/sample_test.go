@@ -102,6 +102,43 @@ func TestOrdersAreAll(t *testing.T) {
 	}
 }
 
+// line is packets under way, of one letter each.
+type line struct{ all string }
+
+func (l *line) Len() int { return len(l.all) }
+
+func (l *line) Peek(at int) ([]byte, bool) {
+	if at >= len(l.all) {
+		return nil, false
+	}
+	return []byte(l.all[at : at+1]), true
+}
+
+func (l *line) Take(at int) ([]byte, bool) {
+	b, is := l.Peek(at)
+	if is {
+		l.all = l.all[:at] + l.all[at+1:]
+	}
+	return b, is
+}
+
+func TestAnyPacketComesOrNone(t *testing.T) {
+	draw := Numbers(3)
+	came := map[string]int{}
+	again := 0
+	for range 300 {
+		l := &line{"abc"}
+		b := Comes(l, draw)
+		came[string(b)]++
+		if len(b) > 0 && strings.Contains(l.all, string(b)) {
+			again++
+		}
+	}
+	if len(came) != 4 || again < 20 || again > 200 {
+		t.Errorf("%v came, %d stayed under way", came, again)
+	}
+}
+
 func TestSpoilChangesTheRoomBehindAList(t *testing.T) {
 	l := []int{1, 2, 3, 4}
 	Spoil(l[1:2:3], 9)
